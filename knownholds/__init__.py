@@ -1,0 +1,1 @@
+"""Knownholds: stopping places where all holds are known."""
