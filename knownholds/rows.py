@@ -1,5 +1,7 @@
 """The rows of a program: which come next, what each uses and writes, which are stops."""
 
+BOXES = 8
+
 # For each word the parts of its row that are places used, with their kinds;
 # call, back, look and lay are not here, for their kinds hang on the program or on the row.
 USES = {
@@ -22,7 +24,37 @@ USES = {
     "rest": (),
 }
 
+# For each word what the parts behind it are: p a place, n a number, k one from 0 to 9, t a row, f a def, q the q's.
+PARTS = {
+    "put": "pn",
+    "nil": "p",
+    "copy": "pp",
+    "plus": "ppp",
+    "less": "ppp",
+    "make": "pkk",
+    "fetch": "ppk",
+    "read": "ppk",
+    "hang": "pkp",
+    "write": "pkp",
+    "into": "ppk",
+    "look": "ppp",
+    "lay": "ppp",
+    "jump": "t",
+    "zero": "pt",
+    "none": "pt",
+    "same": "ppt",
+    "call": "pfq",
+    "back": "p",
+    "tell": "p",
+    "rest": "",
+}
+
 WRITERS = ("put", "nil", "copy", "plus", "less", "make", "fetch", "read", "into", "look", "call")
+
+
+# None where the word is none of the table's.
+def parts_of(word):
+    return PARTS.get(word)
 
 
 def nexts(rows, at):

@@ -131,6 +131,16 @@ class LanguageTest(unittest.TestCase):
                 for node in nodes_of(tree, ast.Compare):
                     self.check_is(node)
 
+    def test_f_strings_and_keywords_are_plain(self):
+        for name, tree in trees():
+            with self.subTest(file=name):
+                for node in nodes_of(tree, ast.FormattedValue):
+                    self.assertIsInstance(node.value, ast.Name)
+                    self.assertIn(node.conversion, (-1, ord("r")))
+                    self.assertIsNone(node.format_spec)
+                for node in nodes_of(tree, ast.keyword):
+                    self.assertIn(node.arg, ("key", "reverse", "default", "start", "strict"))
+
     def check_is(self, node):
         for operation, other in zip(node.ops, node.comparators):
             if isinstance(operation, (ast.Is, ast.IsNot)):
