@@ -89,6 +89,18 @@ def is_stop(row):
     return row[0] in ("make", "rest", "call")
 
 
+# The stops of each def, as pairs (f, at), sorted.
+def stops_of(program):
+    found = []
+    for f in range(len(program)):
+        found.extend([(f, at) for at, row in enumerate(program[f][3]) if is_stop(row)])
+    return found
+
+
+def places_of(program, f):
+    return BOXES + program[f][2]
+
+
 def reached(rows):
     met = {0: True}
     todo = [0]

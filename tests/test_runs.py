@@ -7,6 +7,7 @@ import unittest
 from knownholds.forms import formed
 from knownholds.hand import Hand
 from knownholds.runs import run
+from makers import made_program
 
 GREAT = 10 ** 60 - 1
 
@@ -268,94 +269,6 @@ def word_of(worth):
 
 def state_of(hand):
     return (hand.f, hand.at, hand.boxes, hand.pile, hand.frames, hand.yard.told(), hand.yard.free, hand.news, hand.end)
-
-
-# Makes a def without a fault: each place that is used keeps one kind from the end of the first rows on, and behind
-# a call the boxes are put anew. Jumps go to the beginnings of blocks alone.
-class Maker:
-    def __init__(self, chance, heads, f):
-        self.chance = chance
-        self.heads = heads
-        takes = heads[f][0]
-        self.gives = heads[f][1]
-        self.places = {"n": [6, 8 + len(takes)], "h": [7, 9 + len(takes)]}
-        self.rows = []
-        for box, letter in enumerate(takes):
-            self.rows.append(("copy", 8 + box, box))
-            self.places[letter].append(8 + box)
-        self.rows.append(("put", 8 + len(takes), chance.randrange(4)))
-        self.rows.append(("make", 9 + len(takes), chance.randrange(2, 6), chance.randrange(2, 6)))
-        self.scratch = 5
-        self.words = 2 + len(takes)
-        self.fresh_boxes()
-        self.starts = []
-
-    def fresh_boxes(self):
-        self.rows.append(("copy", 6, self.places["n"][1]))
-        self.rows.append(("copy", 7, self.places["h"][1]))
-
-    def one(self, letter):
-        return self.chance.choice(self.places[letter])
-
-    def block(self):
-        self.starts.append(len(self.rows))
-        n, h, k = self.one("n"), self.one("h"), self.chance.choice([0, 0, 0, 1, 1, 2, 3])
-        rows = self.chance.choice([
-            [("put", n, self.chance.randrange(-2, 3))],
-            [("nil", h)],
-            [("copy", n, self.one("n"))],
-            [("copy", h, self.one("h"))],
-            [("plus", n, self.one("n"), self.one("n"))],
-            [("less", n, self.one("n"), self.one("n"))],
-            [("make", h, self.chance.randrange(1, 5), self.chance.randrange(1, 5))],
-            [("make", h, self.chance.randrange(1, 5), self.chance.randrange(1, 5))],
-            [("fetch", h, self.one("h"), k)],
-            [("read", n, h, k)],
-            [("hang", h, k, self.one("h"))],
-            [("hang", h, k, self.one("h"))],
-            [("write", h, k, n)],
-            [("into", self.scratch, h, k), ("lay", self.scratch, h, n), ("look", n, self.scratch, h)],
-            [("jump", None)],
-            [("zero", n, None)],
-            [("none", h, None)],
-            [("same", h, self.one("h"), None)],
-            [("tell", n)],
-            [("tell", n)],
-            [("rest",)],
-            [("call",)],
-            [("call",)],
-            [("back", self.one(self.gives))],
-        ])
-        if rows[0][0] == "call":
-            self.call()
-        else:
-            self.rows += rows
-
-    def call(self):
-        f = self.chance.randrange(len(self.heads))
-        takes, gives = self.heads[f]
-        self.rows.append(("call", self.one(gives), f, tuple([self.one(letter) for letter in takes])))
-        self.fresh_boxes()
-
-    def made(self):
-        while len(self.rows) < self.chance.randrange(20, 36):
-            self.block()
-        self.rows.append(self.chance.choice([("jump", None), ("back", self.one(self.gives))]))
-        rows = [row[:-1] + (self.chance.choice(self.starts),) if row[-1] is None else row for row in self.rows]
-        return rows, self.words
-
-
-def made_program(chance):
-    heads = []
-    for f in range(chance.randrange(1, 4)):
-        letters = "n" if f == 0 else "nh"
-        takes = "".join([chance.choice(letters) for k in range(chance.randrange(4))])
-        heads.append((takes, chance.choice(letters)))
-    program = []
-    for f, (takes, gives) in enumerate(heads):
-        rows, words = Maker(chance, heads, f).made()
-        program.append((takes, gives, words, rows))
-    return program
 
 
 class AgainstSlowTest(unittest.TestCase):
