@@ -1,24 +1,15 @@
 """Faults: whether tables fit a program, and the first row or table that a way belies."""
 
+from knownholds.forms import table_formed
 from knownholds.kinds import behind, first_kinds, kinds_of, tables_of
 from knownholds.rows import BOXES, nexts, places_of, reached, stops_of, uses
 
 
-def rises(numbers):
-    return all([lesser < greater for lesser, greater in zip(numbers, numbers[1:])])
-
-
 def table_fits(program, table):
     f = table[0]
-    holds = table[2]
-    spots = [half[0] for half in table[3]]
-    if not rises(holds) or not rises(spots):
-        return False
-    if any([s in holds for s in spots]) or not all([half[1] in holds for half in table[3]]):
-        return False
     # At a call the boxes are the called def's, so the table tells of words of the pile alone.
     first = BOXES if program[f][3][table[1]][0] == "call" else 0
-    return all([first <= p < places_of(program, f) for p in holds + spots])
+    return table_formed(table[2], table[3], first, places_of(program, f))
 
 
 def fit(program, tables):

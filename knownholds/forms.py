@@ -1,4 +1,4 @@
-"""When a program is formed: its numbers within their bounds, each row with just its parts."""
+"""When a program is formed: its numbers within their bounds, each row with just its parts; and when a table is."""
 
 from knownholds.rows import BOXES, parts_of
 
@@ -68,3 +68,17 @@ def formed(program):
     if not 1 <= len(program) <= MOST_DEFS:
         return False
     return all([def_formed(program, f) for f in range(len(program))])
+
+
+def rises(numbers):
+    return all([lesser < greater for lesser, greater in zip(numbers, numbers[1:])])
+
+
+# Whether holds and halves are a table of places from first on and below bound.
+def table_formed(holds, halves, first, bound):
+    spots = [s for s, b in halves]
+    if not rises(holds) or not rises(spots):
+        return False
+    if any([s in holds for s in spots]) or not all([b in holds for s, b in halves]):
+        return False
+    return all([first <= p < bound for p in holds + spots])
