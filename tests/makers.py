@@ -258,7 +258,7 @@ def mended(chance, program):
 
 
 # Tables that fit the program: at each stop the holds and halves that wish tells of it, as far as they fit, or any.
-def fitting_tables(chance, program, wish):
+def fitting_tables(program, wish):
     tables = []
     for f, (takes, gives, words, rows) in enumerate(program):
         for at, row in enumerate(rows):
@@ -287,7 +287,7 @@ def known_tables(chance, program, share):
         holds = [p for p, kind in enumerate(kinds) if kind == "h" and chance.random() < share]
         return holds + [b for s, b in halves if b >= first], halves
 
-    return fitting_tables(chance, program, wish)
+    return fitting_tables(program, wish)
 
 
 # The pairs (place, kind) that row at must find, and then its table's.

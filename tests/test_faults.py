@@ -409,7 +409,7 @@ class AgainstAllWaysTest(Checks):
             program = guided_program(chance, 2, chance.choice([5, 10, 20, 40]), 1)
             if turn % 2:
                 program = mended(chance, program)
-            tables = fitting_tables(chance, program, lambda f, at, first, places: any_table(chance, first, places))
+            tables = fitting_tables(program, lambda f, at, first, places: any_table(chance, first, places))
             free.append(self.against(program, tables))
         self.assertGreater(min(free.count(True), free.count(False)), 30)
 

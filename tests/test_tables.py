@@ -24,7 +24,7 @@ def slow_least(program):
         halves = [(p, kinds[p]) for p in across if isinstance(kinds[p], int)]
         return [p for p in across if kinds[p] == "h"] + [b for s, b in halves], halves
 
-    return fitting_tables(None, program, wish)
+    return fitting_tables(program, wish)
 
 
 class Checks(unittest.TestCase):
