@@ -249,11 +249,10 @@ class FewestTest(unittest.TestCase):
         self.assertEqual(self.check(rows_of(*[(at,) for at in range(9)] + [9])), list(range(10)))
 
     def test_fewer_than_the_told(self):
-        # Two rounds share row 0 alone, and the told rests are one of each.
-        rows = rows_of((3,), "tell", 0, "tell", 0)
-        self.assertEqual(self.check(rows), [0])
-        rows = rows_of("tell", (4,), "tell", 1, "tell", (4,), 1)
-        self.assertLessEqual(len(self.check(rows)), len(told_rests(rows)))
+        # Two rounds share row 2 alone, which is the least of neither.
+        rows = rows_of(2, 2, (0,), 1)
+        self.assertEqual(told_rests(rows), [0, 1])
+        self.assertEqual(self.check(rows), [2])
 
     def test_at_random(self):
         chance = random.Random(291)
